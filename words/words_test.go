@@ -6,27 +6,9 @@ import (
 	"math/big"
 	"testing"
 
+	"scrim/dice"
 	"scrim/words"
 )
-
-// dice throws the same numbers each time, so that a fault comes back.
-type dice struct{ state uint64 }
-
-func (d *dice) next() uint64 {
-	d.state += 0x9E3779B97F4A7C15
-	z := d.state
-	z = (z ^ z>>30) * 0xBF58476D1CE4E5B9
-	z = (z ^ z>>27) * 0x94D049BB133111EB
-	return z ^ z>>31
-}
-
-func (d *dice) bytes(n int) []byte {
-	b := make([]byte, n)
-	for i := range b {
-		b[i] = byte(d.next())
-	}
-	return b
-}
 
 // farTurns are the numbers of bits at the edges of an int, of a byte, a word
 // and three bytes.
@@ -153,9 +135,9 @@ func TestP101Rol32(t *testing.T) {
 			t.Errorf("Rol32 by %d: %X, not %X", n, got, want)
 		}
 	}
-	d := &dice{32}
+	d := dice.New(32)
 	for _, n := range farTurns() {
-		v := uint32(d.next())
+		v := uint32(d.Next())
 		want := turned(words.PutBe32(v), n)
 		if got := words.PutBe32(words.Rol32(v, n)); !bytes.Equal(got, want) {
 			t.Errorf("Rol32 of %X by %d: % X, not % X", v, n, got, want)
@@ -212,10 +194,10 @@ func TestP101Turn(t *testing.T) {
 }
 
 func TestP101TurnBitByBit(t *testing.T) {
-	d := &dice{1}
+	d := dice.New(1)
 	for size := range 40 {
-		b := d.bytes(size)
-		turns := append(farTurns(), 8*size-1, 8*size, 8*size+1, -8*size, int(d.next()))
+		b := d.Bytes(size)
+		turns := append(farTurns(), 8*size-1, 8*size, 8*size+1, -8*size, int(d.Next()))
 		for _, n := range turns {
 			if got, want := words.Turn(b, n), turned(b, n); !bytes.Equal(got, want) {
 				t.Errorf("Turn of % X by %d: % X, not % X", b, n, got, want)
@@ -225,7 +207,7 @@ func TestP101TurnBitByBit(t *testing.T) {
 }
 
 func TestP101TurnLong(t *testing.T) {
-	b := (&dice{2}).bytes(1 << 17)
+	b := dice.New(2).Bytes(1 << 17)
 	for _, n := range []int{3, -3, math.MinInt, math.MaxInt} {
 		if !bytes.Equal(words.Turn(b, n), turned(b, n)) {
 			t.Errorf("Turn of many bytes by %d", n)
@@ -245,10 +227,10 @@ func TestP101Xor(t *testing.T) {
 			}
 		}
 	}
-	d := &dice{4}
+	d := dice.New(4)
 	for n := range 10 {
 		for m := range 10 {
-			a, b := d.bytes(n), d.bytes(m)
+			a, b := d.Bytes(n), d.Bytes(m)
 			got, ok := words.Xor(a, b)
 			if ok != (n == m) || !ok && len(got) != 0 {
 				t.Fatalf("Xor of %d and %d bytes: % X, %v", n, m, got, ok)
@@ -320,7 +302,7 @@ func spoil(b []byte) {
 func TestP2P3HandedInStays(t *testing.T) {
 	for name, call := range calls() {
 		for _, size := range []int{0, 1, 4, 8, 33} {
-			room := (&dice{uint64(size)}).bytes(size + 9)
+			room := dice.New(uint64(size)).Bytes(size + 9)
 			was := bytes.Clone(room)
 			first := call(room[:size])
 			answer := bytes.Clone(first)
@@ -341,7 +323,7 @@ func TestP2P3HandedInStays(t *testing.T) {
 }
 
 func TestP2ReadersLeaveBytes(t *testing.T) {
-	room := (&dice{8}).bytes(16)
+	room := dice.New(8).Bytes(16)
 	was := bytes.Clone(room)
 	for n := range 12 {
 		words.Be32(room[:n])
