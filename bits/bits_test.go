@@ -219,14 +219,6 @@ func TestP201Long(t *testing.T) {
 	}
 }
 
-// spoil writes over a list and all of its spare room.
-func spoil[T byte | int](s []T) {
-	s = s[:cap(s)]
-	for i := range s {
-		s[i] ^= 0x5A
-	}
-}
-
 // What is handed in stays as it was, its spare room too, and shares nothing
 // with the answer; the same call answers the same again.
 func TestP2P3PermuteLeavesAll(t *testing.T) {
@@ -237,13 +229,13 @@ func TestP2P3PermuteLeavesAll(t *testing.T) {
 		was, had := bytes.Clone(room), slices.Clone(numbers)
 		first, _ := bits.Permute(b, table)
 		answer := bytes.Clone(first)
-		spoil(first)
+		dice.Spoil(first)
 		if !bytes.Equal(room, was) || !slices.Equal(numbers, had) {
 			t.Errorf("Permute by %d numbers touches what is handed in", n)
 		}
 		second, _ := bits.Permute(b, table)
-		spoil(room)
-		spoil(numbers)
+		dice.Spoil(room)
+		dice.Spoil(numbers)
 		if !bytes.Equal(second, answer) {
 			t.Errorf("Permute by %d numbers: not the same again", n)
 		}
@@ -257,12 +249,12 @@ func TestP2P3InvertLeavesAll(t *testing.T) {
 		had := slices.Clone(numbers)
 		first, _ := bits.Invert(numbers[:n])
 		answer := slices.Clone(first)
-		spoil(first)
+		dice.Spoil(first)
 		if !slices.Equal(numbers, had) {
 			t.Errorf("Invert of %d numbers touches what is handed in", n)
 		}
 		second, _ := bits.Invert(numbers[:n])
-		spoil(numbers)
+		dice.Spoil(numbers)
 		if !slices.Equal(second, answer) {
 			t.Errorf("Invert of %d numbers: not the same again", n)
 		}

@@ -341,14 +341,6 @@ func TestP401MakeRefuses(t *testing.T) {
 	}
 }
 
-// spoil writes over a list and all of its spare room.
-func spoil(s []byte) {
-	s = s[:cap(s)]
-	for i := range s {
-		s[i] ^= 0x5A
-	}
-}
-
 // What is handed in stays as it was, its spare room too, and shares nothing
 // with the answer; the same call answers the same again.
 func TestP2P3BackLeavesAll(t *testing.T) {
@@ -358,12 +350,12 @@ func TestP2P3BackLeavesAll(t *testing.T) {
 		was := bytes.Clone(room)
 		first, _ := box.Back(room[:n])
 		answer := bytes.Clone(first)
-		spoil(first)
+		dice.Spoil(first)
 		if !box.Is(room[:n]) || !bytes.Equal(room, was) {
 			t.Errorf("Back of %d bytes touches what is handed in", n)
 		}
 		second, _ := box.Back(room[:n])
-		spoil(room)
+		dice.Spoil(room)
 		if !bytes.Equal(second, answer) {
 			t.Errorf("Back of %d bytes: not the same again", n)
 		}
@@ -389,7 +381,7 @@ func TestP2P3MakeIsNew(t *testing.T) {
 		e, mod, rows, c := d.Below(1001), 256+d.Below(256), someRows(d), byte(d.Next())
 		first := box.Make(e, mod, rows, c)
 		answer := bytes.Clone(first)
-		spoil(first)
+		dice.Spoil(first)
 		if !bytes.Equal(box.Make(e, mod, rows, c), answer) {
 			t.Fatalf("Make of %d by %d: not the same again", e, mod)
 		}

@@ -413,14 +413,6 @@ func TestP603BlockBits(t *testing.T) {
 	}
 }
 
-// spoil writes over a list and all of its spare room.
-func spoil(s []byte) {
-	s = s[:cap(s)]
-	for i := range s {
-		s[i] ^= 0x5A
-	}
-}
-
 // What is handed in stays as it was, its spare room too, and shares nothing
 // with the answer; the same call answers the same again.
 func TestP2P3FLeavesAll(t *testing.T) {
@@ -430,14 +422,14 @@ func TestP2P3FLeavesAll(t *testing.T) {
 		hadR, hadK := bytes.Clone(r), bytes.Clone(k)
 		first, _ := des.F(r[:4], k[:6])
 		answer := bytes.Clone(first)
-		spoil(first)
+		dice.Spoil(first)
 		des.F(r[:5], k[:6])
 		if !bytes.Equal(r, hadR) || !bytes.Equal(k, hadK) {
 			t.Fatal("F touches what is handed in")
 		}
 		second, _ := des.F(r[:4], k[:6])
-		spoil(r)
-		spoil(k)
+		dice.Spoil(r)
+		dice.Spoil(k)
 		if !bytes.Equal(second, answer) {
 			t.Fatal("F: not the same again")
 		}
@@ -454,14 +446,14 @@ func TestP2P3KeysLeavesAll(t *testing.T) {
 			if signs(keys[i]) != want {
 				t.Fatalf("key %d shares what another one has", i+1)
 			}
-			spoil(keys[i])
+			dice.Spoil(keys[i])
 		}
 		des.Keys(room[:9])
 		if !bytes.Equal(room, had) {
 			t.Fatal("Keys touches what is handed in")
 		}
 		again, _ := des.Keys(room[:8])
-		spoil(room)
+		dice.Spoil(room)
 		for i, want := range scheduled(had[:8]) {
 			if signs(again[i]) != want {
 				t.Fatalf("key %d: not the same again", i+1)
@@ -484,9 +476,9 @@ func TestP2P3NewLeavesAll(t *testing.T) {
 		}
 		keys, _ := des.Keys(room[:8])
 		for _, k := range keys {
-			spoil(k)
+			dice.Spoil(k)
 		}
-		spoil(room)
+		dice.Spoil(room)
 		want := make([]byte, 8)
 		library(t, had[:size]).Encrypt(want, b)
 		if !bytes.Equal(turned(t, x, b, false), want) {
@@ -502,14 +494,14 @@ func TestP2P3BlockLeavesAll(t *testing.T) {
 		had := bytes.Clone(room)
 		first := turned(t, x, room[:8], back)
 		answer := bytes.Clone(first)
-		spoil(first)
+		dice.Spoil(first)
 		x.Block(room[:7], back)
 		x.Block(room[:9], back)
 		if !bytes.Equal(room, had) {
 			t.Fatal("Block touches what is handed in")
 		}
 		second := turned(t, x, room[:8], back)
-		spoil(room)
+		dice.Spoil(room)
 		if !bytes.Equal(second, answer) {
 			t.Fatal("Block: not the same again")
 		}

@@ -1,5 +1,5 @@
-// Package dice throws numbers for the tests of the other packages; the program
-// itself imports it nowhere.
+// Package dice throws numbers for the tests of the other packages, and spoils
+// lists for them; the program itself imports it nowhere.
 package dice
 
 // Dice throw the same row of numbers each time, so that a fault comes back.
@@ -34,4 +34,13 @@ func (d *Dice) Shuffled(n int) []int {
 		table[i], table[k] = table[k], i+1
 	}
 	return table
+}
+
+// Spoil writes over a list and all of its spare room, so that it shows who shares
+// any of it.
+func Spoil[T byte | int](s []T) {
+	s = s[:cap(s)]
+	for i := range s {
+		s[i] ^= 0x5A
+	}
 }

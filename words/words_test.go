@@ -289,14 +289,6 @@ func calls() map[string]func(b []byte) []byte {
 	}
 }
 
-// spoil writes over a list and all of its spare room.
-func spoil(b []byte) {
-	b = b[:cap(b)]
-	for i := range b {
-		b[i] ^= 0x5A
-	}
-}
-
 // What is handed in stays as it was, its spare room too, and shares nothing
 // with the answer; the same call answers the same again.
 func TestP2P3HandedInStays(t *testing.T) {
@@ -306,7 +298,7 @@ func TestP2P3HandedInStays(t *testing.T) {
 			was := bytes.Clone(room)
 			first := call(room[:size])
 			answer := bytes.Clone(first)
-			spoil(first)
+			dice.Spoil(first)
 			if !bytes.Equal(room, was) {
 				t.Errorf("%s of %d bytes touches what is handed in", name, size)
 			}
@@ -314,7 +306,7 @@ func TestP2P3HandedInStays(t *testing.T) {
 			if !bytes.Equal(second, answer) {
 				t.Errorf("%s of %d bytes: not the same again", name, size)
 			}
-			spoil(room)
+			dice.Spoil(room)
 			if !bytes.Equal(second, answer) {
 				t.Errorf("%s of %d bytes keeps what is handed in", name, size)
 			}
@@ -345,7 +337,7 @@ func TestP2P3PutIsNew(t *testing.T) {
 		first := put()
 		want := bytes.Clone(first)
 		second := put()
-		spoil(first)
+		dice.Spoil(first)
 		if !bytes.Equal(second, want) || !bytes.Equal(put(), want) {
 			t.Errorf("%s answers memory that another answer has", name)
 		}
