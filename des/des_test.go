@@ -5,7 +5,6 @@ import (
 	"crypto/cipher"
 	stddes "crypto/des"
 	"encoding/hex"
-	"math/bits"
 	"slices"
 	"strconv"
 	"strings"
@@ -14,6 +13,7 @@ import (
 	"scrim/api"
 	"scrim/des"
 	"scrim/dice"
+	"scrim/probe"
 )
 
 // hexed is told pairs of signs.
@@ -137,16 +137,6 @@ func made(t *testing.T, key []byte) *des.Des {
 		t.Fatalf("New of % X: %v", key, e)
 	}
 	return d
-}
-
-// turned is Block of a block.
-func turned(t *testing.T, d *des.Des, b []byte, back bool) []byte {
-	t.Helper()
-	out, e := d.Block(b, back)
-	if e != api.OK || len(out) != 8 {
-		t.Fatalf("Block of % X: % X, %v", b, out, e)
-	}
-	return out
 }
 
 func TestP601F(t *testing.T) {
@@ -294,10 +284,10 @@ func TestP602Block(t *testing.T) {
 		{"0123456789ABCDEF23456789ABCDEF01456789ABCDEF0123", "5468652071756663", "A826FD8CE53B855F"},
 	} {
 		d := made(t, hexed(x.key))
-		if got := turned(t, d, hexed(x.b), false); !bytes.Equal(got, hexed(x.want)) {
+		if got := probe.Turned(t, d, hexed(x.b), false); !bytes.Equal(got, hexed(x.want)) {
 			t.Errorf("Block of %s by %s: % X, not %s", x.b, x.key, got, x.want)
 		}
-		if got := turned(t, d, hexed(x.want), true); !bytes.Equal(got, hexed(x.b)) {
+		if got := probe.Turned(t, d, hexed(x.want), true); !bytes.Equal(got, hexed(x.b)) {
 			t.Errorf("Block of %s by %s, back: % X, not %s", x.want, x.key, got, x.b)
 		}
 	}
@@ -310,11 +300,11 @@ func TestP602BlockOfAny(t *testing.T) {
 		key, b := d.Bytes(8+8*(round%3)), d.Bytes(8)
 		x, c, want := made(t, key), library(t, key), make([]byte, 8)
 		c.Encrypt(want, b)
-		if got := turned(t, x, b, false); !bytes.Equal(got, want) {
+		if got := probe.Turned(t, x, b, false); !bytes.Equal(got, want) {
 			t.Fatalf("Block of % X by % X: % X, not % X", b, key, got, want)
 		}
 		c.Decrypt(want, b)
-		if got := turned(t, x, b, true); !bytes.Equal(got, want) {
+		if got := probe.Turned(t, x, b, true); !bytes.Equal(got, want) {
 			t.Fatalf("Block of % X by % X, back: % X, not % X", b, key, got, want)
 		}
 	}
@@ -326,18 +316,18 @@ func TestP602OneByOne(t *testing.T) {
 	for range 60 {
 		key, b := d.Bytes(24), d.Bytes(8)
 		one, two, three := made(t, key[:8]), made(t, key[8:16]), made(t, key[16:])
-		there := turned(t, three, turned(t, two, turned(t, one, b, false), true), false)
-		back := turned(t, one, turned(t, two, turned(t, three, b, true), false), true)
+		there := probe.Turned(t, three, probe.Turned(t, two, probe.Turned(t, one, b, false), true), false)
+		back := probe.Turned(t, one, probe.Turned(t, two, probe.Turned(t, three, b, true), false), true)
 		all := made(t, key)
-		if got := turned(t, all, b, false); !bytes.Equal(got, there) {
+		if got := probe.Turned(t, all, b, false); !bytes.Equal(got, there) {
 			t.Fatalf("% X by % X: % X, not % X", b, key, got, there)
 		}
-		if got := turned(t, all, b, true); !bytes.Equal(got, back) {
+		if got := probe.Turned(t, all, b, true); !bytes.Equal(got, back) {
 			t.Fatalf("% X by % X, back: % X, not % X", b, key, got, back)
 		}
 		short, long := made(t, key[:16]), made(t, slices.Concat(key[:16], key[:8]))
 		for _, way := range []bool{false, true} {
-			if !bytes.Equal(turned(t, short, b, way), turned(t, long, b, way)) {
+			if !bytes.Equal(probe.Turned(t, short, b, way), probe.Turned(t, long, b, way)) {
 				t.Fatalf("% X by % X: the third is not the first", b, key[:16])
 			}
 		}
@@ -346,35 +336,15 @@ func TestP602OneByOne(t *testing.T) {
 
 func TestP602BlockRefuses(t *testing.T) {
 	d := dice.New(608)
-	room, b := d.Bytes(64), d.Bytes(8)
 	for _, size := range []int{8, 16, 24} {
-		x := made(t, d.Bytes(size))
-		want := turned(t, x, b, false)
-		for n := range 40 {
-			for _, back := range []bool{false, true} {
-				got, e := x.Block(room[:n], back)
-				if n == 8 && (e != api.OK || len(got) != 8) || n != 8 && (e != api.ErrArg || len(got) != 0) {
-					t.Errorf("Block of %d bytes: % X, %v", n, got, e)
-				}
-			}
-		}
-		if got, e := x.Block(nil, false); e != api.ErrArg || len(got) != 0 {
-			t.Errorf("Block of nothing: % X, %v", got, e)
-		}
-		if !bytes.Equal(turned(t, x, b, false), want) { // P5
-			t.Error("a refusal changes what Block answers")
-		}
+		probe.Refuses(t, d, made(t, d.Bytes(size)), 8)
 	}
 }
 
 func TestP603ThereAndBack(t *testing.T) {
 	d := dice.New(609)
 	for round := range 300 {
-		x, b := made(t, d.Bytes(8+8*(round%3))), d.Bytes(8)
-		there, back := turned(t, x, b, false), turned(t, x, b, true)
-		if !bytes.Equal(turned(t, x, there, true), b) || !bytes.Equal(turned(t, x, back, false), b) {
-			t.Fatalf("% X is not what it was", b)
-		}
+		probe.ThereAndBack(t, made(t, d.Bytes(8+8*(round%3))), d.Bytes(8))
 	}
 }
 
@@ -383,10 +353,10 @@ func TestP603KeyBits(t *testing.T) {
 	d := dice.New(610)
 	for _, size := range []int{8, 16, 24} {
 		key, b := d.Bytes(size), d.Bytes(8)
-		want := turned(t, made(t, key), b, false)
+		want := probe.Turned(t, made(t, key), b, false)
 		for i := range 8 * size {
 			key[i/8] ^= 0x80 >> (i % 8)
-			got := turned(t, made(t, key), b, false)
+			got := probe.Turned(t, made(t, key), b, false)
 			key[i/8] ^= 0x80 >> (i % 8)
 			if bytes.Equal(got, want) != (i%8 == 7) {
 				t.Errorf("bit %d of a key of %d bytes", i+1, size)
@@ -399,16 +369,13 @@ func TestP603KeyBits(t *testing.T) {
 func TestP603BlockBits(t *testing.T) {
 	d := dice.New(611)
 	x, b := made(t, d.Bytes(8)), d.Bytes(8)
-	was := turned(t, x, b, false)
+	was := probe.Turned(t, x, b, false)
 	for i := range 64 {
 		b[i/8] ^= 0x80 >> (i % 8)
-		got, others := turned(t, x, b, false), 0
+		got := probe.Turned(t, x, b, false)
 		b[i/8] ^= 0x80 >> (i % 8)
-		for at := range got {
-			others += bits.OnesCount8(got[at] ^ was[at])
-		}
-		if others < 10 || others > 54 {
-			t.Errorf("bit %d turns %d bits about", i+1, others)
+		if !probe.FarApart(got, was) {
+			t.Errorf("bit %d: % X, and ahead of that % X", i+1, got, was)
 		}
 	}
 }
@@ -481,7 +448,7 @@ func TestP2P3NewLeavesAll(t *testing.T) {
 		dice.Spoil(room)
 		want := make([]byte, 8)
 		library(t, had[:size]).Encrypt(want, b)
-		if !bytes.Equal(turned(t, x, b, false), want) {
+		if !bytes.Equal(probe.Turned(t, x, b, false), want) {
 			t.Fatalf("New keeps a key of %d bytes", size)
 		}
 	}
@@ -489,22 +456,8 @@ func TestP2P3NewLeavesAll(t *testing.T) {
 
 func TestP2P3BlockLeavesAll(t *testing.T) {
 	d := dice.New(615)
-	for round := range 60 {
-		x, room, back := made(t, d.Bytes(8+8*(round%3))), d.Bytes(30), round%2 == 0
-		had := bytes.Clone(room)
-		first := turned(t, x, room[:8], back)
-		answer := bytes.Clone(first)
-		dice.Spoil(first)
-		x.Block(room[:7], back)
-		x.Block(room[:9], back)
-		if !bytes.Equal(room, had) {
-			t.Fatal("Block touches what is handed in")
-		}
-		second := turned(t, x, room[:8], back)
-		dice.Spoil(room)
-		if !bytes.Equal(second, answer) {
-			t.Fatal("Block: not the same again")
-		}
+	for _, size := range []int{8, 16, 24} {
+		probe.LeavesAll(t, d, made(t, d.Bytes(size)), 8)
 	}
 }
 
@@ -518,7 +471,7 @@ func TestP7SideBySide(t *testing.T) {
 	x := made(t, one)
 	y := made(t, two)
 	for range 3 {
-		if !bytes.Equal(turned(t, x, b, false), wantOne) || !bytes.Equal(turned(t, y, b, true), wantTwo) {
+		if !bytes.Equal(probe.Turned(t, x, b, false), wantOne) || !bytes.Equal(probe.Turned(t, y, b, true), wantTwo) {
 			t.Fatal("one of two touches the other")
 		}
 		des.New(nil)
@@ -526,10 +479,7 @@ func TestP7SideBySide(t *testing.T) {
 	}
 }
 
-// One that New has not made, as P8 has it: it ends, and panics not.
+// One that New has not made.
 func TestP1BlockOfOneThatIsNotMade(t *testing.T) {
-	var x des.Des
-	for n := range 10 {
-		x.Block(make([]byte, n), n%2 == 0)
-	}
+	probe.Ends(&des.Des{}, 8)
 }

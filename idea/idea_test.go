@@ -3,13 +3,13 @@ package idea_test
 import (
 	"bytes"
 	"math"
-	"math/bits"
 	"slices"
 	"testing"
 
 	"scrim/api"
 	"scrim/dice"
 	"scrim/idea"
+	"scrim/probe"
 )
 
 // spread tells numbers as bytes, two each.
@@ -117,16 +117,6 @@ func made(t *testing.T, key []byte) *idea.Idea {
 		t.Fatalf("New of % X: %v", key, e)
 	}
 	return x
-}
-
-// turned is Block of a block.
-func turned(t *testing.T, x *idea.Idea, b []byte, back bool) []byte {
-	t.Helper()
-	out, e := x.Block(b, back)
-	if e != api.OK || len(out) != 8 {
-		t.Fatalf("Block of % X: % X, %v", b, out, e)
-	}
-	return out
 }
 
 func TestP701Mul(t *testing.T) {
@@ -272,10 +262,10 @@ func TestP702Block(t *testing.T) {
 		},
 	} {
 		d := made(t, x.key)
-		if got := turned(t, d, x.b, false); !bytes.Equal(got, x.want) {
+		if got := probe.Turned(t, d, x.b, false); !bytes.Equal(got, x.want) {
 			t.Errorf("Block of % X by % X: % X, not % X", x.b, x.key, got, x.want)
 		}
-		if got := turned(t, d, x.want, true); !bytes.Equal(got, x.b) {
+		if got := probe.Turned(t, d, x.want, true); !bytes.Equal(got, x.b) {
 			t.Errorf("Block of % X by % X, back: % X, not % X", x.want, x.key, got, x.b)
 		}
 	}
@@ -286,10 +276,10 @@ func TestP702Block(t *testing.T) {
 func check(t *testing.T, key, b []byte) {
 	t.Helper()
 	x := made(t, key)
-	if got, want := turned(t, x, b, false), passed(key, b); !bytes.Equal(got, want) {
+	if got, want := probe.Turned(t, x, b, false), passed(key, b); !bytes.Equal(got, want) {
 		t.Fatalf("Block of % X by % X: % X, not % X", b, key, got, want)
 	}
-	if got := turned(t, x, b, true); !bytes.Equal(passed(key, got), b) {
+	if got := probe.Turned(t, x, b, true); !bytes.Equal(passed(key, got), b) {
 		t.Fatalf("Block of % X by % X, back: % X", b, key, got)
 	}
 }
@@ -317,54 +307,20 @@ func TestP702BlockAtTheEdges(t *testing.T) {
 
 func TestP702BlockRefuses(t *testing.T) {
 	d := dice.New(707)
-	room, b, x := d.Bytes(64), d.Bytes(8), made(t, d.Bytes(16))
-	there, backward := turned(t, x, b, false), turned(t, x, b, true)
-	for n := range 40 {
-		for _, back := range []bool{false, true} {
-			got, e := x.Block(room[:n], back)
-			if n == 8 && (e != api.OK || len(got) != 8) || n != 8 && (e != api.ErrArg || len(got) != 0) {
-				t.Errorf("Block of %d bytes: % X, %v", n, got, e)
-			}
-		}
-	}
-	for _, back := range []bool{false, true} {
-		if got, e := x.Block(nil, back); e != api.ErrArg || len(got) != 0 {
-			t.Errorf("Block of nothing: % X, %v", got, e)
-		}
-	}
-	if !bytes.Equal(turned(t, x, b, false), there) || !bytes.Equal(turned(t, x, b, true), backward) { // P5
-		t.Error("a refusal changes what Block answers")
-	}
+	probe.Refuses(t, d, made(t, d.Bytes(16)), 8)
 }
 
 func TestP703ThereAndBack(t *testing.T) {
 	d := dice.New(708)
 	for range 2000 {
-		x, b := made(t, d.Bytes(16)), d.Bytes(8)
-		there, back := turned(t, x, b, false), turned(t, x, b, true)
-		if !bytes.Equal(turned(t, x, there, true), b) || !bytes.Equal(turned(t, x, back, false), b) {
-			t.Fatalf("% X is not what it was", b)
-		}
+		probe.ThereAndBack(t, made(t, d.Bytes(16)), d.Bytes(8))
 	}
 }
 
-// Each bit of a key and of a block counts, for some half of the answer's bits, and
-// two blocks make two (T4).
+// Each bit of a key and of a block counts, and two blocks make two (T4).
 func TestP703EachBitCounts(t *testing.T) {
 	d := dice.New(709)
-	key, b := d.Bytes(16), d.Bytes(8)
-	was := turned(t, made(t, key), b, false)
-	for i := range 192 {
-		changed := slices.Concat(key, b)
-		changed[i/8] ^= 0x80 >> (i % 8)
-		got, others := turned(t, made(t, changed[:16]), changed[16:], false), 0
-		for at := range got {
-			others += bits.OnesCount8(got[at] ^ was[at])
-		}
-		if others < 10 || others > 54 {
-			t.Errorf("bit %d of key and block turns %d bits about", i+1, others)
-		}
-	}
+	probe.EachBitCounts(t, d.Bytes(16), d.Bytes(8), func(key []byte) probe.Cipher { return made(t, key) })
 }
 
 // What is handed in stays as it was, its spare room too, and shares nothing with
@@ -403,8 +359,8 @@ func TestP2P3NewLeavesAll(t *testing.T) {
 		keys, _ := idea.Keys(room[:16])
 		dice.Spoil(keys)
 		dice.Spoil(room)
-		there := turned(t, x, b, false)
-		if !bytes.Equal(there, passed(had[:16], b)) || !bytes.Equal(turned(t, x, there, true), b) {
+		there := probe.Turned(t, x, b, false)
+		if !bytes.Equal(there, passed(had[:16], b)) || !bytes.Equal(probe.Turned(t, x, there, true), b) {
 			t.Fatal("New keeps a key")
 		}
 	}
@@ -412,22 +368,8 @@ func TestP2P3NewLeavesAll(t *testing.T) {
 
 func TestP2P3BlockLeavesAll(t *testing.T) {
 	d := dice.New(712)
-	for round := range 60 {
-		x, room, back := made(t, d.Bytes(16)), d.Bytes(30), round%2 == 0
-		had := bytes.Clone(room)
-		first := turned(t, x, room[:8], back)
-		answer := bytes.Clone(first)
-		dice.Spoil(first)
-		x.Block(room[:7], back)
-		x.Block(room[:9], !back)
-		if !bytes.Equal(room, had) {
-			t.Fatal("Block touches what is handed in")
-		}
-		second := turned(t, x, room[:8], back)
-		dice.Spoil(room)
-		if !bytes.Equal(second, answer) {
-			t.Fatal("Block: not the same again")
-		}
+	for range 3 {
+		probe.LeavesAll(t, d, made(t, d.Bytes(16)), 8)
 	}
 }
 
@@ -456,12 +398,12 @@ func TestP7SideBySide(t *testing.T) {
 		t.Error("New answers one that another call has")
 	}
 	for range 3 {
-		there := turned(t, x, b, false)
-		back := turned(t, y, b, true)
+		there := probe.Turned(t, x, b, false)
+		back := probe.Turned(t, y, b, true)
 		if !bytes.Equal(there, passed(one, b)) || !bytes.Equal(passed(two, back), b) {
 			t.Fatal("one of two touches the other")
 		}
-		if !bytes.Equal(turned(t, z, there, true), b) {
+		if !bytes.Equal(probe.Turned(t, z, there, true), b) {
 			t.Fatal("two of one key are not alike")
 		}
 		idea.New(nil)
@@ -469,12 +411,7 @@ func TestP7SideBySide(t *testing.T) {
 	}
 }
 
-// One that New has not made, as P8 has it: it ends, and panics not.
+// One that New has not made.
 func TestP1BlockOfOneThatIsNotMade(t *testing.T) {
-	var x idea.Idea
-	for n := range 10 {
-		for _, back := range []bool{false, true} {
-			x.Block(make([]byte, n), back)
-		}
-	}
+	probe.Ends(&idea.Idea{}, 8)
 }
