@@ -38,7 +38,7 @@ func (d *Dice) Shuffled(n int) []int {
 
 // Spoil writes over a list and all of its spare room, so that it shows who shares
 // any of it.
-func Spoil[T byte | int](s []T) {
+func Spoil[T byte | int | uint32](s []T) {
 	s = s[:cap(s)]
 	for i := range s {
 		s[i] ^= 0x5A
