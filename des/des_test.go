@@ -461,22 +461,22 @@ func TestP2P3BlockLeavesAll(t *testing.T) {
 	}
 }
 
-// Two of them, side by side, do not touch one another.
+// Several, of one key or of others, side by side, do not touch one another.
 func TestP7SideBySide(t *testing.T) {
 	d := dice.New(616)
-	one, two, b := d.Bytes(8), d.Bytes(24), d.Bytes(8)
-	wantOne, wantTwo := make([]byte, 8), make([]byte, 8)
-	library(t, one).Encrypt(wantOne, b)
-	library(t, two).Decrypt(wantTwo, b)
-	x := made(t, one)
-	y := made(t, two)
-	for range 3 {
-		if !bytes.Equal(probe.Turned(t, x, b, false), wantOne) || !bytes.Equal(probe.Turned(t, y, b, true), wantTwo) {
-			t.Fatal("one of two touches the other")
-		}
-		des.New(nil)
-		made(t, one)
+	var all []probe.Known
+	for _, size := range []int{8, 16, 24, 8, 16, 24} {
+		key := d.Bytes(size)
+		all = append(all, probe.Known{
+			Made: func() probe.Cipher { des.New(nil); return made(t, key) },
+			There: func(b []byte) []byte {
+				out := make([]byte, len(b))
+				library(t, key).Encrypt(out, b)
+				return out
+			},
+		})
 	}
+	probe.SideBySide(t, d.Bytes(8), all)
 }
 
 // One that New has not made.

@@ -389,26 +389,18 @@ func TestP3NumbersAnswerTheSame(t *testing.T) {
 	}
 }
 
-// Two of them, of one key or of two, side by side, do not touch one another.
+// Several, of one key or of others, side by side, do not touch one another.
 func TestP7SideBySide(t *testing.T) {
 	d := dice.New(713)
-	one, two, b := d.Bytes(16), d.Bytes(16), d.Bytes(8)
-	x, y, z := made(t, one), made(t, two), made(t, one)
-	if x == z {
-		t.Error("New answers one that another call has")
-	}
+	var all []probe.Known
 	for range 3 {
-		there := probe.Turned(t, x, b, false)
-		back := probe.Turned(t, y, b, true)
-		if !bytes.Equal(there, passed(one, b)) || !bytes.Equal(passed(two, back), b) {
-			t.Fatal("one of two touches the other")
-		}
-		if !bytes.Equal(probe.Turned(t, z, there, true), b) {
-			t.Fatal("two of one key are not alike")
-		}
-		idea.New(nil)
-		made(t, two)
+		key := d.Bytes(16)
+		all = append(all, probe.Known{
+			Made:  func() probe.Cipher { idea.New(nil); return made(t, key) },
+			There: func(b []byte) []byte { return passed(key, b) },
+		})
 	}
+	probe.SideBySide(t, d.Bytes(8), all)
 }
 
 // One that New has not made.

@@ -114,6 +114,40 @@ func EachBitCounts(t Tester, key, b []byte, made func(key []byte) Cipher) {
 	}
 }
 
+// Known is a cipher by one of its keys: how one is made, and what it makes of a
+// block, there, as is known from elsewhere.
+type Known struct {
+	Made  func() Cipher
+	There func(b []byte) []byte
+}
+
+// SideBySide holds that several, two of each of all, are as many objects, and that
+// they do not touch one another, whatever others are made between (P7).
+func SideBySide(t Tester, b []byte, all []Known) {
+	t.Helper()
+	all = slices.Concat(all, all)
+	var made []Cipher
+	for _, known := range all {
+		x := known.Made()
+		if slices.Contains(made, x) {
+			t.Errorf("New answers one that another call has")
+		}
+		made = append(made, x)
+	}
+	for range 3 {
+		var there [][]byte
+		for i, x := range made {
+			there = append(there, Turned(t, x, b, false))
+			all[i].Made()
+		}
+		for i, x := range made {
+			if !bytes.Equal(there[i], all[i].There(b)) || !bytes.Equal(Turned(t, x, there[i], true), b) {
+				t.Fatalf("one touches the other")
+			}
+		}
+	}
+}
+
 // FarApart tells whether some half of the bits are others: over a sixth of them,
 // and under five. Both have as many.
 func FarApart(a, b []byte) bool {

@@ -424,39 +424,15 @@ func TestP3GAnswersTheSame(t *testing.T) {
 // touch one another.
 func TestP7SideBySide(t *testing.T) {
 	d := dice.New(811)
-	keys, b := [][]byte{d.Bytes(32), d.Bytes(32)}, d.Bytes(8)
-	type one struct {
-		tag int
-		key []byte
-		x   *small.Small
-	}
-	var all []one
+	var all []probe.Known
 	for _, tag := range slices.Concat(tags(), tags()) {
-		for _, key := range keys {
-			key = key[:keySize(tag)]
-			all = append(all, one{tag, key, made(t, tag, key)})
-		}
+		key := d.Bytes(keySize(tag))
+		all = append(all, probe.Known{
+			Made:  func() probe.Cipher { small.New(tag, nil); return made(t, tag, key) },
+			There: func(b []byte) []byte { return passed(tag, key, b) },
+		})
 	}
-	for i := range all {
-		for k := range i {
-			if all[i].x == all[k].x {
-				t.Error("New answers one that another call has")
-			}
-		}
-	}
-	for range 3 {
-		var there [][]byte
-		for _, o := range all {
-			there = append(there, probe.Turned(t, o.x, b, false))
-			small.New(o.tag, nil)
-			made(t, o.tag, o.key)
-		}
-		for i, o := range all {
-			if !bytes.Equal(there[i], passed(o.tag, o.key, b)) || !bytes.Equal(probe.Turned(t, o.x, there[i], true), b) {
-				t.Fatalf("%d: one touches the other", o.tag)
-			}
-		}
-	}
+	probe.SideBySide(t, d.Bytes(8), all)
 }
 
 // One that New has not made.

@@ -401,34 +401,15 @@ func TestP2P3BlockLeavesAll(t *testing.T) {
 // Several, of one key or of others, side by side, do not touch one another.
 func TestP7SideBySide(t *testing.T) {
 	d := dice.New(916)
-	b := d.Bytes(16)
-	var keys [][]byte
-	var all []*twofish.Twofish
+	var all []probe.Known
 	for _, size := range slices.Concat(sizes(), sizes()) {
 		key := d.Bytes(size)
-		keys = append(keys, key, key)
-		all = append(all, made(t, key), made(t, key))
+		all = append(all, probe.Known{
+			Made:  func() probe.Cipher { twofish.New(nil); return made(t, key) },
+			There: func(b []byte) []byte { return referenceBlock(key, b) },
+		})
 	}
-	for i := range all {
-		for k := range i {
-			if all[i] == all[k] {
-				t.Error("New answers one that another call has")
-			}
-		}
-	}
-	for range 3 {
-		var there [][]byte
-		for i, x := range all {
-			there = append(there, probe.Turned(t, x, b, false))
-			twofish.New(nil)
-			made(t, keys[i])
-		}
-		for i, x := range all {
-			if !bytes.Equal(there[i], referenceBlock(keys[i], b)) || !bytes.Equal(probe.Turned(t, x, there[i], true), b) {
-				t.Fatal("one touches the other")
-			}
-		}
-	}
+	probe.SideBySide(t, d.Bytes(16), all)
 }
 
 // One that New has not made.
