@@ -4,7 +4,6 @@ import (
 	"bytes"
 	stdcipher "crypto/cipher"
 	stddes "crypto/des"
-	"encoding/hex"
 	"math"
 	"slices"
 	"testing"
@@ -13,13 +12,10 @@ import (
 	"scrim/cipher"
 	"scrim/dice"
 	"scrim/modes"
+	"scrim/supply"
 )
 
 func allModes() []int { return []int{api.Ecb, api.Cbc, api.Cfb8, api.Cfb, api.Ofb, api.Ctr} }
-
-func allTags() []int {
-	return []int{api.Des, api.Tdes, api.Idea, api.Xtea, api.Magma, api.Twofish, api.Aria, api.Rc5}
-}
 
 // noModes are none of this layer's, also those that a narrower number would take
 // for one.
@@ -28,31 +24,6 @@ func noModes() []int {
 		0, api.Cs1, api.Cs2, api.Cs3, 10, 11, 255, 256 + api.Ecb, 1<<16 + api.Cbc, 1<<32 + api.Ctr,
 		-1, -2, -6, -7, -1 << 32, -1<<32 + api.Ofb, math.MinInt, math.MinInt + api.Cfb, math.MaxInt,
 	}
-}
-
-// raw is a text of signs 0 to 9, A to F, as bytes.
-func raw(text string) []byte {
-	b, e := hex.DecodeString(text)
-	if e != nil {
-		panic(e)
-	}
-	return b
-}
-
-func cipherOf(t *testing.T, tag int, key []byte) *cipher.Cipher {
-	t.Helper()
-	c, e := cipher.New(tag, key)
-	if e != api.OK {
-		t.Fatalf("New of %d: %v", tag, e)
-	}
-	return c
-}
-
-// thrown is a cipher of that tag, by some key.
-func thrown(t *testing.T, d *dice.Dice, tag int) *cipher.Cipher {
-	t.Helper()
-	lengths := cipher.Lengths(tag)
-	return cipherOf(t, tag, d.Bytes(lengths[d.Below(len(lengths))]))
 }
 
 // ivOf is a first chain that may be.
@@ -99,22 +70,13 @@ func refused(t *testing.T, m *modes.Mode, b []byte) {
 // each calls for each mode, either way, by a cipher of each of those tags.
 func each(t *testing.T, d *dice.Dice, tags []int, call func(c *cipher.Cipher, mode int, back bool)) {
 	t.Helper()
-	for _, tag := range tags {
-		for _, mode := range allModes() {
-			for _, back := range []bool{false, true} {
-				call(thrown(t, d, tag), mode, back)
-			}
-		}
-	}
+	supply.Each(t, d, tags, allModes(), call)
 }
-
-// quick are a tag for each length of a block.
-func quick() []int { return []int{api.Xtea, api.Twofish} }
 
 func TestP1201New(t *testing.T) {
 	d := dice.New(1201)
 	room := d.Bytes(100)
-	each(t, d, allTags(), func(c *cipher.Cipher, mode int, back bool) {
+	each(t, d, supply.AllTags(), func(c *cipher.Cipher, mode int, back bool) {
 		may := c.Size()
 		if mode == api.Ecb {
 			may = 0
@@ -139,8 +101,8 @@ func TestP1201New(t *testing.T) {
 func TestP1201NewRefusesModes(t *testing.T) {
 	d := dice.New(1202)
 	room := d.Bytes(40)
-	for _, tag := range allTags() {
-		c := thrown(t, d, tag)
+	for _, tag := range supply.AllTags() {
+		c := supply.Thrown(t, d, tag)
 		for _, mode := range noModes() {
 			for n := range 20 {
 				if m, e := modes.New(c, mode, n%2 == 0, room[:n]); e != api.BadMode || m != nil {
@@ -157,7 +119,7 @@ func TestP1201NewRefusesModes(t *testing.T) {
 // It stays, whatever is turned or refused between.
 func TestP1201Grain(t *testing.T) {
 	d := dice.New(1203)
-	each(t, d, allTags(), func(c *cipher.Cipher, mode int, back bool) {
+	each(t, d, supply.AllTags(), func(c *cipher.Cipher, mode int, back bool) {
 		m, want := made(t, c, mode, back, ivOf(d, c, mode)), grainOf(c, mode)
 		for range 2 {
 			if got := m.Grain(); got != want {
@@ -173,7 +135,7 @@ func TestP1201Grain(t *testing.T) {
 // one key, one iv.
 func TestP1201StepAsTold(t *testing.T) {
 	text := []byte("Now is the time for all ")
-	key, iv := raw("0123456789ABCDEF"), raw("1234567890ABCDEF")
+	key, iv := supply.Raw("0123456789ABCDEF"), supply.Raw("1234567890ABCDEF")
 	for mode, want := range map[int]string{
 		api.Ecb:  "3FA40E8A984D48156A271787AB8883F9893D51EC4B563B53",
 		api.Cbc:  "E5C7CDDE872BF27C43E934008C389C0F683788499A7C05F6",
@@ -185,17 +147,17 @@ func TestP1201StepAsTold(t *testing.T) {
 		if mode == api.Ecb {
 			first = nil
 		}
-		checkTold(t, cipherOf(t, api.Des, key), mode, first, text, raw(want))
+		checkTold(t, supply.Cipher(t, api.Des, key), mode, first, text, supply.Raw(want))
 	}
 }
 
 // Magma by blocks, and counting, likewise.
 func TestP1201StepOfMagmaAsTold(t *testing.T) {
-	c := cipherOf(t, api.Magma, raw("FFEEDDCCBBAA99887766554433221100F0F1F2F3F4F5F6F7F8F9FAFBFCFDFEFF"))
-	b := raw("92DEF06B3C130A59DB54C704F8189D204A98FB2E67A8024C8912409B17B57E41")
-	checkTold(t, c, api.Ecb, nil, b, raw("2B073F0494F372A0DE70E715D3556E4811D8D9E9EACFBC1E7C68260996C67EFB"))
-	checkTold(t, c, api.Ctr, raw("1234567800000000"), b,
-		raw("4E98110C97B7B93C3E250D93D6E85D69136D868807B2DBEF568EB680AB52A12D"))
+	c := supply.Cipher(t, api.Magma, supply.Raw("FFEEDDCCBBAA99887766554433221100F0F1F2F3F4F5F6F7F8F9FAFBFCFDFEFF"))
+	b := supply.Raw("92DEF06B3C130A59DB54C704F8189D204A98FB2E67A8024C8912409B17B57E41")
+	checkTold(t, c, api.Ecb, nil, b, supply.Raw("2B073F0494F372A0DE70E715D3556E4811D8D9E9EACFBC1E7C68260996C67EFB"))
+	checkTold(t, c, api.Ctr, supply.Raw("1234567800000000"), b,
+		supply.Raw("4E98110C97B7B93C3E250D93D6E85D69136D868807B2DBEF568EB680AB52A12D"))
 }
 
 func checkTold(t *testing.T, c *cipher.Cipher, mode int, iv, b, want []byte) {
@@ -245,7 +207,7 @@ func TestP1201StepByTheLanguagesOwn(t *testing.T) {
 				if e != nil {
 					t.Fatal(e)
 				}
-				c := cipherOf(t, api.Des, key)
+				c := supply.Cipher(t, api.Des, key)
 				b := d.Bytes(grainOf(c, mode) * (3*n + 1))
 				got, want := stepped(t, made(t, c, mode, back, iv), b), library(own, mode, back, iv, b)
 				if !bytes.Equal(got, want) {
@@ -259,7 +221,7 @@ func TestP1201StepByTheLanguagesOwn(t *testing.T) {
 // Of each number of grains, none too, to some blocks and a part of one.
 func TestP1201Step(t *testing.T) {
 	d := dice.New(1205)
-	each(t, d, allTags(), func(c *cipher.Cipher, mode int, back bool) {
+	each(t, d, supply.AllTags(), func(c *cipher.Cipher, mode int, back bool) {
 		grain := grainOf(c, mode)
 		for n := 0; n*grain <= 4*c.Size()+3; n++ {
 			iv, b := ivOf(d, c, mode), d.Bytes(n*grain)
@@ -274,7 +236,7 @@ func TestP1201Step(t *testing.T) {
 // First chains and bytes that are one and the same through and through.
 func TestP1201StepOfEdges(t *testing.T) {
 	d := dice.New(1206)
-	each(t, d, allTags(), func(c *cipher.Cipher, mode int, back bool) {
+	each(t, d, supply.AllTags(), func(c *cipher.Cipher, mode int, back bool) {
 		for _, v := range []byte{0x00, 0x01, 0x80, 0xFF} {
 			iv := bytes.Repeat([]byte{v}, len(ivOf(d, c, mode)))
 			for _, w := range []byte{0x00, 0x80, 0xFF} {
@@ -292,8 +254,8 @@ func TestP1201StepOfEdges(t *testing.T) {
 // row's end is a step's.
 func TestP1201CtrCounts(t *testing.T) {
 	d := dice.New(1207)
-	for _, tag := range quick() {
-		c := thrown(t, d, tag)
+	for _, tag := range supply.QuickTags() {
+		c := supply.Thrown(t, d, tag)
 		size := c.Size()
 		for ones := range size + 1 {
 			iv := bytes.Repeat([]byte{0xFF}, size)
@@ -313,11 +275,11 @@ func TestP1201CtrCounts(t *testing.T) {
 
 // The count goes on where a number of a byte, and of two, would end.
 func TestP1201CtrCountsFar(t *testing.T) {
-	c := thrown(t, dice.New(1208), api.Xtea)
-	iv := raw("FFFFFFFFFFFF0000")
+	c := supply.Thrown(t, dice.New(1208), api.Xtea)
+	iv := supply.Raw("FFFFFFFFFFFF0000")
 	got := stepped(t, made(t, c, api.Ctr, false, iv), make([]byte, 8*(1<<16+3)))
 	for _, k := range []int{0, 1, 0xFF, 0x100, 0x101, 0xFFFE, 0xFFFF, 0x10000, 0x10001, 0x10002} {
-		if want := turned(t, c, false, counted(iv, k)); !bytes.Equal(got[8*k:8*k+8], want) {
+		if want := supply.Turned(t, c, false, counted(iv, k)); !bytes.Equal(got[8*k:8*k+8], want) {
 			t.Errorf("row %d: % X, not % X", k, got[8*k:8*k+8], want)
 		}
 	}
@@ -327,7 +289,7 @@ func TestP1201CtrCountsFar(t *testing.T) {
 // changes nothing (P5).
 func TestP1201StepRefuses(t *testing.T) {
 	d := dice.New(1209)
-	each(t, d, allTags(), func(c *cipher.Cipher, mode int, back bool) {
+	each(t, d, supply.AllTags(), func(c *cipher.Cipher, mode int, back bool) {
 		if mode != api.Ecb && mode != api.Cbc {
 			return
 		}
@@ -352,7 +314,7 @@ func TestP1201StepRefuses(t *testing.T) {
 // The chapter's example; and the next bytes are turned as if there had been none.
 func TestP1201StepOfNone(t *testing.T) {
 	d := dice.New(1210)
-	each(t, d, allTags(), func(c *cipher.Cipher, mode int, back bool) {
+	each(t, d, supply.AllTags(), func(c *cipher.Cipher, mode int, back bool) {
 		grain := grainOf(c, mode)
 		iv, b := ivOf(d, c, mode), d.Bytes(3*c.Size())
 		m := made(t, c, mode, back, iv)
@@ -373,8 +335,8 @@ func TestP1201StepOfNone(t *testing.T) {
 // No two modes are one; back is there in Ofb and Ctr alone.
 func TestP1201NoTwoAreOne(t *testing.T) {
 	d := dice.New(1211)
-	for _, tag := range quick() {
-		c := thrown(t, d, tag)
+	for _, tag := range supply.QuickTags() {
+		c := supply.Thrown(t, d, tag)
 		iv, b := d.Bytes(c.Size()), d.Bytes(3*c.Size())
 		seen := map[string]int{}
 		for _, mode := range allModes() {
@@ -407,7 +369,7 @@ func cut(t *testing.T, d *dice.Dice, m *modes.Mode, b []byte, most int) []byte {
 // At each place once, and at two.
 func TestP1202CutAtEachPlace(t *testing.T) {
 	d := dice.New(1212)
-	each(t, d, quick(), func(c *cipher.Cipher, mode int, back bool) {
+	each(t, d, supply.QuickTags(), func(c *cipher.Cipher, mode int, back bool) {
 		grain := grainOf(c, mode)
 		iv, b := ivOf(d, c, mode), d.Bytes(3*c.Size())
 		want := stepped(t, made(t, c, mode, back, iv), b)
@@ -426,7 +388,7 @@ func TestP1202CutAtEachPlace(t *testing.T) {
 // In grains, in some, in many.
 func TestP1202CutInAnyWay(t *testing.T) {
 	d := dice.New(1213)
-	each(t, d, allTags(), func(c *cipher.Cipher, mode int, back bool) {
+	each(t, d, supply.AllTags(), func(c *cipher.Cipher, mode int, back bool) {
 		iv := ivOf(d, c, mode)
 		b := d.Bytes(grainOf(c, mode) * (100 + d.Below(40)))
 		want := stepped(t, made(t, c, mode, back, iv), b)
@@ -442,7 +404,7 @@ func TestP1202CutInAnyWay(t *testing.T) {
 // it was (T2), whichever way is first.
 func TestP1202ThereAndBack(t *testing.T) {
 	d := dice.New(1214)
-	each(t, d, allTags(), func(c *cipher.Cipher, mode int, back bool) {
+	each(t, d, supply.AllTags(), func(c *cipher.Cipher, mode int, back bool) {
 		for range 4 {
 			iv, b := ivOf(d, c, mode), d.Bytes(grainOf(c, mode)*d.Below(50))
 			first := cut(t, d, made(t, c, mode, back, iv), b, 9)
@@ -456,7 +418,7 @@ func TestP1202ThereAndBack(t *testing.T) {
 // New changes no iv and keeps none: what becomes of it does not count.
 func TestP2P3NewLeavesAll(t *testing.T) {
 	d := dice.New(1215)
-	each(t, d, allTags(), func(c *cipher.Cipher, mode int, back bool) {
+	each(t, d, supply.AllTags(), func(c *cipher.Cipher, mode int, back bool) {
 		room, b := d.Bytes(60), d.Bytes(3*c.Size())
 		had, n := bytes.Clone(room), len(ivOf(d, c, mode))
 		m := made(t, c, mode, back, room[:n])
@@ -477,7 +439,7 @@ func TestP2P3NewLeavesAll(t *testing.T) {
 // answer changes no later one; no later call touches an answer.
 func TestP2P3StepLeavesAll(t *testing.T) {
 	d := dice.New(1216)
-	each(t, d, allTags(), func(c *cipher.Cipher, mode int, back bool) {
+	each(t, d, supply.AllTags(), func(c *cipher.Cipher, mode int, back bool) {
 		grain, iv := grainOf(c, mode), ivOf(d, c, mode)
 		m := made(t, c, mode, back, iv)
 		var b, got, last, wasLast []byte
@@ -518,9 +480,9 @@ func TestP5P7SideBySide(t *testing.T) {
 		want   []byte
 	}
 	d := dice.New(1217)
-	shared := thrown(t, d, api.Xtea)
+	shared := supply.Thrown(t, d, api.Xtea)
 	var all []side
-	each(t, d, allTags(), func(c *cipher.Cipher, mode int, back bool) {
+	each(t, d, supply.AllTags(), func(c *cipher.Cipher, mode int, back bool) {
 		for _, one := range []*cipher.Cipher{c, c, shared} {
 			iv, b := ivOf(d, one, mode), d.Bytes(5*one.Size())
 			all = append(all, side{made(t, one, mode, back, iv), b, nil, told(t, one, mode, back, iv, b)})

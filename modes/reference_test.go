@@ -7,30 +7,8 @@ import (
 
 	"scrim/api"
 	"scrim/cipher"
+	"scrim/supply"
 )
-
-// turned is a block by E or D.
-func turned(t *testing.T, c *cipher.Cipher, back bool, b []byte) []byte {
-	t.Helper()
-	call := c.Enc
-	if back {
-		call = c.Dec
-	}
-	out, e := call(b)
-	if e != api.OK {
-		t.Fatalf("% X, %v: %v", b, back, e)
-	}
-	return out
-}
-
-// plus is a and as many bytes of b, byte by byte.
-func plus(a, b []byte) []byte {
-	out := slices.Clone(a)
-	for i := range out {
-		out[i] ^= b[i]
-	}
-	return out
-}
 
 // counted is iv as one number, the highest byte first, and k more.
 func counted(iv []byte, k int) []byte {
@@ -57,23 +35,23 @@ func told(t *testing.T, c *cipher.Cipher, mode int, back bool, iv, b []byte) []b
 		p := b[at:min(at+size, len(b))]
 		switch {
 		case mode == api.Ecb:
-			out = append(out, turned(t, c, back, p)...)
+			out = append(out, supply.Turned(t, c, back, p)...)
 		case mode == api.Cbc && back:
-			out = append(out, plus(turned(t, c, true, p), last)...)
+			out = append(out, supply.Plus(supply.Turned(t, c, true, p), last)...)
 		case mode == api.Cbc:
-			out = append(out, turned(t, c, false, plus(p, last))...)
+			out = append(out, supply.Turned(t, c, false, supply.Plus(p, last))...)
 		case mode == api.Cfb8:
-			out = append(out, p[0]^turned(t, c, false, last)[0])
+			out = append(out, p[0]^supply.Turned(t, c, false, last)[0])
 		case mode == api.Cfb:
-			out = append(out, plus(p, turned(t, c, false, last))...)
+			out = append(out, supply.Plus(p, supply.Turned(t, c, false, last))...)
 		case mode == api.Ofb:
 			row := iv
 			for range at/size + 1 {
-				row = turned(t, c, false, row)
+				row = supply.Turned(t, c, false, row)
 			}
-			out = append(out, plus(p, row)...)
+			out = append(out, supply.Plus(p, row)...)
 		case mode == api.Ctr:
-			out = append(out, plus(p, turned(t, c, false, counted(iv, at/size)))...)
+			out = append(out, supply.Plus(p, supply.Turned(t, c, false, counted(iv, at/size)))...)
 		default:
 			t.Fatalf("mode %d", mode)
 		}
