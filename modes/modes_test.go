@@ -131,27 +131,14 @@ func TestP1201Grain(t *testing.T) {
 	})
 }
 
-// DES in the modes of old, examples that others have told, from memory: one text,
-// one key, one iv.
+// DES in the modes of old.
 func TestP1201StepAsTold(t *testing.T) {
-	text := []byte("Now is the time for all ")
-	key, iv := supply.Raw("0123456789ABCDEF"), supply.Raw("1234567890ABCDEF")
-	for mode, want := range map[int]string{
-		api.Ecb:  "3FA40E8A984D48156A271787AB8883F9893D51EC4B563B53",
-		api.Cbc:  "E5C7CDDE872BF27C43E934008C389C0F683788499A7C05F6",
-		api.Cfb8: "F31FDA07011462EE187F43D80A7CD9B5B0D290DA6E5B9A87",
-		api.Cfb:  "F3096249C7F46E51A69E839B1A92F78403467133898EA622",
-		api.Ofb:  "F3096249C7F46E5135F24A242EEB3D3F3D6D5BE3255AF8C3",
-	} {
-		first := iv
-		if mode == api.Ecb {
-			first = nil
-		}
-		checkTold(t, supply.Cipher(t, api.Des, key), mode, first, text, supply.Raw(want))
+	for _, x := range supply.OldDes() {
+		checkTold(t, supply.Cipher(t, x.Tag, x.Key), x.Mode, x.IV, x.Text, x.Hidden)
 	}
 }
 
-// Magma by blocks, and counting, likewise.
+// Magma by blocks, and counting, examples that others have told, from memory.
 func TestP1201StepOfMagmaAsTold(t *testing.T) {
 	c := supply.Cipher(t, api.Magma, supply.Raw("FFEEDDCCBBAA99887766554433221100F0F1F2F3F4F5F6F7F8F9FAFBFCFDFEFF"))
 	b := supply.Raw("92DEF06B3C130A59DB54C704F8189D204A98FB2E67A8024C8912409B17B57E41")

@@ -3,6 +3,7 @@
 package supply
 
 import (
+	"math"
 	"slices"
 	"strconv"
 
@@ -18,6 +19,18 @@ func AllTags() []int {
 
 // QuickTags are a tag for each length of a block.
 func QuickTags() []int { return []int{api.Xtea, api.Twofish} }
+
+// Outside are numbers under least and over most, also those that a narrower number
+// would take for one between.
+func Outside(least, most int) []int {
+	out := []int{math.MinInt, math.MinInt + least, -most, -least, least - 1, most + 1, most + 2, math.MaxInt}
+	for _, bits := range []int{8, 16, 32} {
+		for _, n := range []int{least, most} {
+			out = append(out, 1<<bits+n, -1<<bits+n)
+		}
+	}
+	return slices.DeleteFunc(out, func(n int) bool { return n >= least && n <= most })
+}
 
 // Raw is a text of signs 0 to 9, A to F, as bytes.
 func Raw(text string) []byte {
@@ -81,4 +94,70 @@ func Plus(a, b []byte) []byte {
 		out[i] ^= b[i]
 	}
 	return out
+}
+
+// Asked is all that a message is turned by.
+type Asked struct {
+	api.Config
+	Key, IV []byte
+}
+
+// Old is what others have told, from memory: what becomes of a text.
+type Old struct {
+	Asked
+	Text, Hidden []byte
+}
+
+// OldDes are DES of one text in each of the modes of old, by one key and one iv.
+func OldDes() []Old {
+	var out []Old
+	for _, x := range []struct {
+		mode   int
+		hidden string
+	}{
+		{api.Ecb, "3FA40E8A984D48156A271787AB8883F9893D51EC4B563B53"},
+		{api.Cbc, "E5C7CDDE872BF27C43E934008C389C0F683788499A7C05F6"},
+		{api.Cfb8, "F31FDA07011462EE187F43D80A7CD9B5B0D290DA6E5B9A87"},
+		{api.Cfb, "F3096249C7F46E51A69E839B1A92F78403467133898EA622"},
+		{api.Ofb, "F3096249C7F46E5135F24A242EEB3D3F3D6D5BE3255AF8C3"},
+	} {
+		c := api.Config{Tag: api.Des, Mode: x.mode, Pad: api.None}
+		asked := Asked{c, Raw("0123456789ABCDEF"), Raw("1234567890ABCDEF")}
+		if x.mode == api.Ecb {
+			asked.IV = nil
+		}
+		out = append(out, Old{asked, []byte("Now is the time for all "), Raw(x.hidden)})
+	}
+	return out
+}
+
+// EachAsked calls for each mode, either way, with each padding that goes with it, by
+// each of those tags.
+func EachAsked(d *dice.Dice, tags []int, call func(x Asked)) {
+	for _, tag := range tags {
+		for mode := api.Ecb; mode <= api.Cs3; mode++ {
+			for kind := leastPad(mode); kind <= api.None; kind++ {
+				for _, back := range []bool{false, true} {
+					call(ThrownAsked(d, api.Config{Tag: tag, Mode: mode, Pad: kind, Back: back}))
+				}
+			}
+		}
+	}
+}
+
+// leastPad is the first of the paddings that go with a mode; None is the last one.
+func leastPad(mode int) int {
+	if mode <= api.Cbc {
+		return api.Pkcs7
+	}
+	return api.None
+}
+
+// ThrownAsked is what c asks for, by some key and some iv that may be.
+func ThrownAsked(d *dice.Dice, c api.Config) Asked {
+	lengths, ivBytes := cipher.Lengths(c.Tag), cipher.Size(c.Tag)
+	if c.Mode == api.Ecb {
+		ivBytes = 0
+	}
+	return Asked{c, d.Bytes(lengths[d.Below(len(lengths))]), d.Bytes(ivBytes)}
 }
