@@ -95,20 +95,29 @@ func TestP1301TailOfEdges(t *testing.T) {
 	})
 }
 
-// DES in Cbc, of whole blocks, an example that others have told, from memory.
+// DES in Cbc, of whole blocks.
 func TestP1301TailAsTold(t *testing.T) {
-	c := supply.Cipher(t, api.Des, supply.Raw("0123456789ABCDEF"))
-	text, iv := []byte("Now is the time for all "), supply.Raw("1234567890ABCDEF")
-	chain := supply.Raw("E5C7CDDE872BF27C43E934008C389C0F683788499A7C05F6")
+	for _, x := range supply.OldDes() {
+		if x.Mode == api.Cbc {
+			checkTold(t, x)
+		}
+	}
+}
+
+// checkTold holds three blocks of Cbc: each alone, and two that are next to each other.
+func checkTold(t *testing.T, x supply.Old) {
+	t.Helper()
+	c, text, chain := supply.Cipher(t, x.Tag, x.Key), x.Text, x.Hidden
 	first, second, third := chain[:8], chain[8:16], chain[16:]
 	for _, mode := range allModes() {
-		checkEitherWay(t, c, mode, iv, text[:8], first)
+		checkEitherWay(t, c, mode, x.IV, text[:8], first)
+		checkEitherWay(t, c, mode, first, text[8:16], second)
 		checkEitherWay(t, c, mode, second, text[16:], third)
 		early, late := chain[:16], chain[8:]
 		if mode == api.Cs3 {
 			early, late = slices.Concat(second, first), slices.Concat(third, second)
 		}
-		checkEitherWay(t, c, mode, iv, text[:16], early)
+		checkEitherWay(t, c, mode, x.IV, text[:16], early)
 		checkEitherWay(t, c, mode, first, text[8:], late)
 	}
 }
