@@ -315,18 +315,7 @@ func TestP1501ShotRefusesLengths(t *testing.T) {
 		size := cipher.Size(x.Tag)
 		for n := range 3*size + 2 {
 			m := d.Bytes(n + size)[:n]
-			whole := n%size == 0
-			may := true
-			switch {
-			case x.Mode >= api.Cs1:
-				may = n >= size
-			case x.Mode >= api.Cfb8:
-			case x.Pad == api.None:
-				may = whole
-			case x.Back:
-				may = whole && n > 0
-			}
-			if !may {
+			if !x.MayBe(n) {
 				refusedShot(t, x, m, api.BadLength)
 			} else if _, e := shot.Shot(x.Config, x.Key, x.IV, m); e == api.BadLength {
 				t.Errorf("Shot of %+v, %d bytes: %v", x, n, e)
@@ -541,18 +530,8 @@ func TestP3P5CallsInAnyOrder(t *testing.T) {
 // Any numbers, lists of any length.
 func TestP1AnyData(t *testing.T) {
 	d := dice.New(1522)
-	number := func(most int) int {
-		if d.Below(20) == 0 {
-			return int(d.Next())
-		}
-		return d.Below(most+4) - 1
-	}
 	for range 50000 {
-		x := supply.Asked{
-			Config: api.Config{Tag: number(api.Rc5), Mode: number(api.Cs3), Pad: number(api.None), Back: d.Below(2) == 0},
-			Key:    d.Bytes(8 * d.Below(6)),
-			IV:     d.Bytes(8 * d.Below(4)),
-		}
+		x := supply.AnyAsked(d)
 		m := d.Bytes(d.Below(60))
 		if e := shot.Check(x.Config, x.Key, x.IV); e != api.OK {
 			refusedShot(t, x, m, e)

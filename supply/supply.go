@@ -102,6 +102,20 @@ type Asked struct {
 	Key, IV []byte
 }
 
+// MayBe tells whether a message of n bytes may be.
+func (x Asked) MayBe(n int) bool {
+	size := cipher.Size(x.Tag)
+	switch {
+	case x.Mode >= api.Cs1:
+		return n >= size
+	case x.Mode >= api.Cfb8:
+		return true
+	case x.Pad == api.None:
+		return n%size == 0
+	}
+	return !x.Back || n > 0 && n%size == 0
+}
+
 // Old is what others have told, from memory: what becomes of a text.
 type Old struct {
 	Asked
@@ -160,4 +174,18 @@ func ThrownAsked(d *dice.Dice, c api.Config) Asked {
 		ivBytes = 0
 	}
 	return Asked{c, d.Bytes(lengths[d.Below(len(lengths))]), d.Bytes(ivBytes)}
+}
+
+// AnyAsked is something that may be asked for, or may not.
+func AnyAsked(d *dice.Dice) Asked {
+	c := api.Config{Tag: anyNumber(d, api.Rc5), Mode: anyNumber(d, api.Cs3), Pad: anyNumber(d, api.None), Back: d.Below(2) == 0}
+	return Asked{c, d.Bytes(8 * d.Below(6)), d.Bytes(8 * d.Below(4))}
+}
+
+// anyNumber is mostly one of 1 to most, or a neighbour of these.
+func anyNumber(d *dice.Dice, most int) int {
+	if d.Below(20) == 0 {
+		return int(d.Next())
+	}
+	return d.Below(most+4) - 1
 }
