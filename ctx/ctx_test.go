@@ -14,32 +14,6 @@ import (
 	"scrim/supply"
 )
 
-// someAsked is all of EachAsked, shuffled, so that each comes behind any other.
-func someAsked(d *dice.Dice, tags []int) []supply.Asked {
-	var all, out []supply.Asked
-	supply.EachAsked(d, tags, func(x supply.Asked) { all = append(all, x) })
-	for _, i := range d.Shuffled(len(all)) {
-		out = append(out, all[i-1])
-	}
-	return out
-}
-
-// other is x the other way about.
-func other(x supply.Asked) supply.Asked {
-	x.Back = !x.Back
-	return x
-}
-
-// cut is m in pieces of up to most bytes, none too.
-func cut(d *dice.Dice, m []byte, most int) [][]byte {
-	var out [][]byte
-	for len(m) > 0 {
-		n := min(d.Below(most+1), len(m))
-		out, m = append(out, m[:n]), m[n:]
-	}
-	return out
-}
-
 // throughout is all that a context tells of those pieces.
 func (p *pair) throughout(pieces [][]byte) ([]byte, api.Errno) {
 	p.t.Helper()
@@ -78,16 +52,16 @@ func (p *pair) closed() {
 func TestP1601Init(t *testing.T) {
 	d := dice.New(1601)
 	p := newPair(t)
-	for _, x := range someAsked(d, supply.AllTags()) {
+	for _, x := range supply.SomeAsked(d, supply.AllTags()) {
 		for _, n := range cipher.Lengths(x.Tag) {
 			x.Key = d.Bytes(n)
 			want(t, "Init", p.init(x), api.OK)
-			p.throughout(cut(d, d.Bytes(d.Below(80)), 20))
+			p.throughout(supply.Cut(d, d.Bytes(d.Below(80)), 20))
 		}
 		if x.Mode == api.Ecb {
 			x.IV = []byte{}
 			want(t, "Init", p.init(x), api.OK)
-			p.throughout(cut(d, d.Bytes(d.Below(80)), 20))
+			p.throughout(supply.Cut(d, d.Bytes(d.Below(80)), 20))
 		}
 	}
 }
@@ -95,53 +69,38 @@ func TestP1601Init(t *testing.T) {
 // In each state; what was under way, or over, is no more.
 func TestP1601InitInEachState(t *testing.T) {
 	d := dice.New(1602)
-	all := someAsked(d, supply.AllTags())
+	all := supply.SomeAsked(d, supply.AllTags())
 	for i, x := range all {
 		p := opened(t, all[(i+1)%len(all)])
 		p.update(d.Bytes(d.Below(50)))
 		want(t, "Init, open", p.init(x), api.OK)
 		p.update(d.Bytes(d.Below(50)))
 		want(t, "Init of the same, open", p.init(x), api.OK)
-		p.throughout(cut(d, d.Bytes(d.Below(50)), 20))
+		p.throughout(supply.Cut(d, d.Bytes(d.Below(50)), 20))
 		want(t, "Init, done", p.init(x), api.OK)
-		p.throughout(cut(d, d.Bytes(d.Below(50)), 20))
+		p.throughout(supply.Cut(d, d.Bytes(d.Below(50)), 20))
 	}
-}
-
-// faults are what may be wrong, in order.
-func faults() []func(x *supply.Asked) {
-	return []func(x *supply.Asked){
-		func(x *supply.Asked) { x.Tag += 8 },
-		func(x *supply.Asked) { x.Key = append(slices.Clone(x.Key), 0) },
-		func(x *supply.Asked) { x.Mode += 9 },
-		func(x *supply.Asked) { x.Pad -= 4 },
-		func(x *supply.Asked) { x.IV = append(slices.Clone(x.IV), 0) },
-	}
-}
-
-func errorsOfFaults() []api.Errno {
-	return []api.Errno{api.BadTag, api.BadKey, api.BadMode, api.BadMode, api.BadIV}
 }
 
 // refusesInits holds that each fault, and each behind one, is told; the pair asks
 // whether all stays.
 func (p *pair) refusesInits(x supply.Asked) {
 	p.t.Helper()
-	for i, wanted := range errorsOfFaults() {
+	for i, f := range supply.Faults() {
 		spoilt, more := x, x
-		faults()[i](&spoilt)
-		want(p.t, "Init", p.init(spoilt), wanted)
-		for _, spoil := range faults()[i:] {
-			spoil(&more)
+		f.Spoil(&spoilt)
+		want(p.t, "Init", p.init(spoilt), f.E)
+		for _, g := range supply.Faults()[i:] {
+			g.Spoil(&more)
 		}
-		want(p.t, "Init of several faults", p.init(more), wanted)
+		want(p.t, "Init of several faults", p.init(more), f.E)
 	}
 }
 
 // In each state; what was begun goes on, and Reset begins that.
 func TestP1601InitRefuses(t *testing.T) {
 	d := dice.New(1603)
-	all := someAsked(d, supply.AllTags())
+	all := supply.SomeAsked(d, supply.AllTags())
 	for i, x := range all {
 		refused := all[(i+1)%len(all)]
 		p := newPair(t)
@@ -150,7 +109,7 @@ func TestP1601InitRefuses(t *testing.T) {
 		p.closed()
 		p.init(x)
 		p.refusesInits(refused)
-		for _, b := range cut(d, d.Bytes(50), 30) {
+		for _, b := range supply.Cut(d, d.Bytes(50), 30) {
 			p.update(b)
 			p.refusesInits(refused)
 		}
@@ -159,7 +118,7 @@ func TestP1601InitRefuses(t *testing.T) {
 		p.closed()
 		p.reset()
 		p.refusesInits(refused)
-		p.throughout(cut(d, d.Bytes(50), 20))
+		p.throughout(supply.Cut(d, d.Bytes(50), 20))
 	}
 }
 
@@ -189,7 +148,7 @@ func TestP1601ResetRefusesNewOnes(t *testing.T) {
 // In each state but new, whatever was held, and however it ended.
 func TestP1601Reset(t *testing.T) {
 	d := dice.New(1605)
-	for _, x := range someAsked(d, supply.AllTags()) {
+	for _, x := range supply.SomeAsked(d, supply.AllTags()) {
 		p := opened(t, x)
 		m := d.Bytes(70)
 		want(t, "Reset, at the beginning", p.reset(), api.OK)
@@ -200,7 +159,7 @@ func TestP1601Reset(t *testing.T) {
 			want(t, "Reset, done", p.reset(), api.OK)
 		}
 		want(t, "Reset again", p.reset(), api.OK)
-		p.throughout(cut(d, m, 20))
+		p.throughout(supply.Cut(d, m, 20))
 	}
 }
 
@@ -208,14 +167,14 @@ func TestP1601Reset(t *testing.T) {
 func TestP1601ResetOfTheLastInit(t *testing.T) {
 	d := dice.New(1606)
 	p := newPair(t)
-	for _, x := range someAsked(d, supply.AllTags()) {
+	for _, x := range supply.SomeAsked(d, supply.AllTags()) {
 		p.init(x)
 		p.refusesInits(supply.ThrownAsked(d, x.Config))
 		p.update(d.Bytes(d.Below(50)))
 		p.reset()
-		p.throughout(cut(d, d.Bytes(d.Below(50)), 20))
+		p.throughout(supply.Cut(d, d.Bytes(d.Below(50)), 20))
 		p.reset()
-		p.throughout(cut(d, d.Bytes(d.Below(50)), 20))
+		p.throughout(supply.Cut(d, d.Bytes(d.Below(50)), 20))
 	}
 }
 
@@ -362,13 +321,13 @@ func TestP1603Final(t *testing.T) {
 		p := opened(t, x)
 		for n := range 3*size + 2 {
 			m := d.Bytes(n)
-			p.throughout(cut(d, m, 2*size))
+			p.throughout(supply.Cut(d, m, 2*size))
 			p.reset()
-			hidden, e := shot.Shot(other(x).Config, x.Key, x.IV, m)
+			hidden, e := shot.Shot(x.Other().Config, x.Key, x.IV, m)
 			if e != api.OK {
 				continue
 			}
-			if _, e := p.throughout(cut(d, hidden, 2*size)); e != api.OK {
+			if _, e := p.throughout(supply.Cut(d, hidden, 2*size)); e != api.OK {
 				t.Fatalf("%+v: % X: %v", x, hidden, e)
 			}
 			p.reset()
@@ -401,14 +360,14 @@ func TestP1603FinalRefusesPaddings(t *testing.T) {
 			return
 		}
 		size := cipher.Size(x.Tag)
-		open := other(x)
+		open := x.Other()
 		open.Pad = api.None
 		for _, v := range []byte{0, byte(size + 1), 129, 255} {
 			for blocks := range 4 {
 				m := slices.Concat(d.Bytes(size*blocks), bytes.Repeat([]byte{v}, size))
 				hidden, _ := shot.Shot(open.Config, x.Key, x.IV, m)
 				p := opened(t, x)
-				all, e := p.throughout(cut(d, hidden, 2*size))
+				all, e := p.throughout(supply.Cut(d, hidden, 2*size))
 				if want(t, "Final", e, api.BadPadding); !bytes.Equal(all, m[:size*blocks]) {
 					t.Errorf("%+v: % X, of % X", x, all, m)
 				}
@@ -431,7 +390,7 @@ func TestP1603FinalOfOldDes(t *testing.T) {
 			if all, e := p.throughout([][]byte{x.Text[:n], x.Text[n:]}); e != api.OK || !bytes.Equal(all, x.Hidden) {
 				t.Errorf("%+v: %X, %v, not %X", x.Asked, all, e, x.Hidden)
 			}
-			p.init(other(x.Asked))
+			p.init(x.Asked.Other())
 			if all, e := p.throughout([][]byte{x.Hidden[:n], x.Hidden[n:]}); e != api.OK || !bytes.Equal(all, x.Text) {
 				t.Errorf("%+v: %X, %v, not %X", x.Asked, all, e, x.Text)
 			}
@@ -443,7 +402,7 @@ func TestP1603FinalOfOldDes(t *testing.T) {
 // an error is the front of what the mode makes (T1), as told.update has it.
 func TestP1604HoweverItIsCut(t *testing.T) {
 	d := dice.New(1616)
-	for _, x := range someAsked(d, supply.AllTags()) {
+	for _, x := range supply.SomeAsked(d, supply.AllTags()) {
 		size := cipher.Size(x.Tag)
 		for range 4 {
 			m := d.Bytes(d.Below(7 * size))
@@ -451,13 +410,13 @@ func TestP1604HoweverItIsCut(t *testing.T) {
 				m = d.Bytes(size * d.Below(7))
 			}
 			if d.Below(2) == 0 {
-				if hidden, e := shot.Shot(other(x).Config, x.Key, x.IV, m); e == api.OK {
+				if hidden, e := shot.Shot(x.Other().Config, x.Key, x.IV, m); e == api.OK {
 					m = hidden
 				}
 			}
 			whole, wanted := shot.Shot(x.Config, x.Key, x.IV, m)
 			for _, most := range []int{1, size - 1, size, size + 1, 3 * size, 7 * size} {
-				all, e := opened(t, x).throughout(cut(d, m, most))
+				all, e := opened(t, x).throughout(supply.Cut(d, m, most))
 				if want(t, "Final", e, wanted); e == api.OK && !bytes.Equal(all, whole) {
 					t.Fatalf("%+v: % X: % X, not % X", x, m, all, whole)
 				}
@@ -469,7 +428,7 @@ func TestP1604HoweverItIsCut(t *testing.T) {
 // Cut in any way, back cut in any other (T2).
 func TestP1604ThereAndBack(t *testing.T) {
 	d := dice.New(1617)
-	for _, x := range someAsked(d, supply.AllTags()) {
+	for _, x := range supply.SomeAsked(d, supply.AllTags()) {
 		if x.Back {
 			continue
 		}
@@ -483,10 +442,10 @@ func TestP1604ThereAndBack(t *testing.T) {
 			}
 			m := d.Bytes(n)
 			p := opened(t, x)
-			hidden, e := p.throughout(cut(d, m, 2*size))
+			hidden, e := p.throughout(supply.Cut(d, m, 2*size))
 			want(t, "Final, there", e, api.OK)
-			p.init(other(x))
-			again, e := p.throughout(cut(d, hidden, 2*size))
+			p.init(x.Other())
+			again, e := p.throughout(supply.Cut(d, hidden, 2*size))
 			if want(t, "Final, back", e, api.OK); !bytes.Equal(again, m) {
 				t.Fatalf("%+v: % X is not % X", x, again, m)
 			}
@@ -502,7 +461,7 @@ func (p *pair) call(d *dice.Dice, all []supply.Asked) {
 		p.init(all[d.Below(len(all))])
 	case 1:
 		x := all[d.Below(len(all))]
-		faults()[d.Below(5)](&x)
+		supply.Faults()[d.Below(5)].Spoil(&x)
 		p.init(x)
 	case 2:
 		p.final()
@@ -517,7 +476,7 @@ func (p *pair) call(d *dice.Dice, all []supply.Asked) {
 // bytes are held (T5, P5).
 func TestP1601ToP1604CallsInAnyOrder(t *testing.T) {
 	d := dice.New(1618)
-	all := someAsked(d, supply.AllTags())
+	all := supply.SomeAsked(d, supply.AllTags())
 	for range 50 {
 		p := newPair(t)
 		for range 200 {
@@ -533,7 +492,7 @@ func TestP1601ToP1604CallsInAnyOrder(t *testing.T) {
 func TestP5P7SideBySide(t *testing.T) {
 	d := dice.New(1619)
 	for range 5 {
-		all := someAsked(d, supply.AllTags())[:10]
+		all := supply.SomeAsked(d, supply.AllTags())[:10]
 		var pairs []*pair
 		for range 10 {
 			pairs = append(pairs, newPair(t))
@@ -558,7 +517,7 @@ func TestP7NewAnswersOneOfItsOwn(t *testing.T) {
 // What is handed in is not changed, its spare room neither, and not kept.
 func TestP2LeavesAll(t *testing.T) {
 	d := dice.New(1620)
-	for _, x := range someAsked(d, supply.AllTags()) {
+	for _, x := range supply.SomeAsked(d, supply.AllTags()) {
 		key, iv := slices.Concat(x.Key, d.Bytes(40)), slices.Concat(x.IV, d.Bytes(40))
 		hadKey, hadIV := bytes.Clone(key), bytes.Clone(iv)
 		p := opened(t, supply.Asked{Config: x.Config, Key: key[:len(x.Key)], IV: iv[:len(x.IV)]})
@@ -583,16 +542,16 @@ func TestP2LeavesAll(t *testing.T) {
 		}
 		dice.Spoil(key)
 		dice.Spoil(iv)
-		p.throughout(cut(d, d.Bytes(100), 30))
+		p.throughout(supply.Cut(d, d.Bytes(100), 30))
 		p.reset()
-		p.throughout(cut(d, d.Bytes(100), 30))
+		p.throughout(supply.Cut(d, d.Bytes(100), 30))
 	}
 }
 
 // No later call touches an answer, and none shares with another one.
 func TestP2AnswersStay(t *testing.T) {
 	d := dice.New(1621)
-	for _, x := range someAsked(d, supply.AllTags()) {
+	for _, x := range supply.SomeAsked(d, supply.AllTags()) {
 		p := opened(t, x)
 		var answers, had [][]byte
 		for range 3 {
@@ -610,17 +569,16 @@ func TestP2AnswersStay(t *testing.T) {
 			}
 			dice.Spoil(out)
 		}
-		p.throughout(cut(d, d.Bytes(100), 30))
+		p.throughout(supply.Cut(d, d.Bytes(100), 30))
 	}
 }
 
 // One list may be handed in as all three, and again.
 func TestP2OneListThrice(t *testing.T) {
 	d := dice.New(1622)
-	for _, x := range someAsked(d, supply.AllTags()) {
-		b := d.Bytes(3 * 16)
+	for _, x := range supply.SomeAsked(d, supply.AllTags()) {
+		x, b := x.OfOneList(d)
 		had := bytes.Clone(b)
-		x.Key, x.IV = b[:len(x.Key)], b[:len(x.IV)]
 		p := opened(t, x)
 		p.throughout([][]byte{b, b, b[1:], b})
 		if !bytes.Equal(b, had) {
@@ -632,8 +590,8 @@ func TestP2OneListThrice(t *testing.T) {
 // The same calls answer the same, of another context and of the same behind Reset.
 func TestP3TheSameAgain(t *testing.T) {
 	d := dice.New(1623)
-	for _, x := range someAsked(d, supply.AllTags()) {
-		pieces := cut(d, d.Bytes(90), 30)
+	for _, x := range supply.SomeAsked(d, supply.AllTags()) {
+		pieces := supply.Cut(d, d.Bytes(90), 30)
 		p, q := opened(t, x), opened(t, x)
 		first, e := p.throughout(pieces)
 		for range 3 {
@@ -651,7 +609,7 @@ func TestP3TheSameAgain(t *testing.T) {
 // One that New has not made is as new as one that it has made.
 func TestP1OneThatIsNotMade(t *testing.T) {
 	d := dice.New(1624)
-	all := someAsked(d, supply.QuickTags())
+	all := supply.SomeAsked(d, supply.QuickTags())
 	for range 20 {
 		p := &pair{t: t, c: &ctx.Ctx{}}
 		p.closed()

@@ -31,12 +31,6 @@ func open(x supply.Asked) supply.Asked {
 	return x
 }
 
-// other is x the other way about.
-func other(x supply.Asked) supply.Asked {
-	x.Back = !x.Back
-	return x
-}
-
 // turned is Shot of what may be.
 func turned(t *testing.T, x supply.Asked, m []byte) []byte {
 	t.Helper()
@@ -183,24 +177,15 @@ func TestP1501RefusesIVs(t *testing.T) {
 
 // Of several things that may not be, the first one is told (P6).
 func TestP1501RefusesInOrder(t *testing.T) {
-	faults := []struct {
-		e     api.Errno
-		spoil func(x *supply.Asked)
-	}{
-		{api.BadTag, func(x *supply.Asked) { x.Tag = 9 }},
-		{api.BadKey, func(x *supply.Asked) { x.Key = append(x.Key, 0) }},
-		{api.BadMode, func(x *supply.Asked) { x.Mode += 9 }},
-		{api.BadMode, func(x *supply.Asked) { x.Pad += 4 }},
-		{api.BadIV, func(x *supply.Asked) { x.IV = append(x.IV, 0) }},
-	}
+	faults := supply.Faults()
 	d := dice.New(1507)
 	supply.EachAsked(d, supply.AllTags(), func(x supply.Asked) {
 		for set := 1; set < 1<<len(faults); set++ {
 			spoilt, want := x, api.OK
 			for i, f := range slices.Backward(faults) {
 				if set>>i&1 == 1 {
-					f.spoil(&spoilt)
-					want = f.e
+					f.Spoil(&spoilt)
+					want = f.E
 				}
 			}
 			refused(t, spoilt, want)
@@ -216,7 +201,7 @@ func TestP1501Shot(t *testing.T) {
 		for n := range 4*size + 3 {
 			check(t, x, d.Bytes(n))
 			if x.Back && x.Pad != api.None {
-				check(t, x, turned(t, other(x), d.Bytes(n)))
+				check(t, x, turned(t, x.Other(), d.Bytes(n)))
 			}
 		}
 	})
@@ -266,7 +251,7 @@ func checkEitherWay(t *testing.T, x supply.Asked, m, want []byte) {
 	if got := turned(t, x, m); !bytes.Equal(got, want) {
 		t.Errorf("Shot of %+v, % X: %X, not %X", x, m, got, want)
 	}
-	if got := turned(t, other(x), want); !bytes.Equal(got, m) {
+	if got := turned(t, x.Other(), want); !bytes.Equal(got, m) {
 		t.Errorf("Shot of %+v, % X, back: %X, not %X", x, want, got, m)
 	}
 }
@@ -336,9 +321,9 @@ func TestP1501ShotByLastByte(t *testing.T) {
 			for i := range m[at:] {
 				m[at+i] = byte(v)
 			}
-			check(t, x, turned(t, open(other(x)), m))
+			check(t, x, turned(t, open(x.Other()), m))
 			copy(m[at+1:], make([]byte, size))
-			check(t, x, turned(t, open(other(x)), m))
+			check(t, x, turned(t, open(x.Other()), m))
 		}
 	})
 }
@@ -350,7 +335,7 @@ func TestP1501ShotRefusesPaddings(t *testing.T) {
 		for _, v := range []byte{0, byte(size + 1), 129, 255} {
 			for blocks := range 4 {
 				m := slices.Concat(d.Bytes(size*blocks), bytes.Repeat([]byte{v}, size))
-				refusedShot(t, x, turned(t, open(other(x)), m), api.BadPadding)
+				refusedShot(t, x, turned(t, open(x.Other()), m), api.BadPadding)
 			}
 		}
 	})
@@ -367,8 +352,8 @@ func TestP1501ShotStripsTheLastBlockAlone(t *testing.T) {
 		size := cipher.Size(x.Tag)
 		for range 5 {
 			m := d.Bytes(2*size + d.Below(size))
-			b := turned(t, other(x), m)
-			last := turned(t, open(other(x)), make([]byte, size))
+			b := turned(t, x.Other(), m)
+			last := turned(t, open(x.Other()), make([]byte, size))
 			refusedShot(t, x, slices.Concat(b, last), api.BadPadding)
 			if got, want := turned(t, x, slices.Concat(last, b)), slices.Concat(make([]byte, size), m); !bytes.Equal(got, want) {
 				t.Fatalf("Shot of %+v: % X, not % X", x, got, want)
@@ -385,9 +370,9 @@ func TestP1501OneOfThree(t *testing.T) {
 		for range 300 {
 			b := d.Bytes(d.Below(3 * size))
 			if d.Below(2) == 0 {
-				b = turned(t, open(other(x)), slices.Concat(d.Bytes(size), make([]byte, size-1), []byte{byte(d.Below(2))}))
+				b = turned(t, open(x.Other()), slices.Concat(d.Bytes(size), make([]byte, size-1), []byte{byte(d.Below(2))}))
 			} else if d.Below(2) == 0 {
-				b = turned(t, other(x), b)
+				b = turned(t, x.Other(), b)
 			}
 			out, e := shot.Shot(x.Config, x.Key, x.IV, b)
 			seen[e]++
@@ -425,7 +410,7 @@ func TestP1502ThereAndBack(t *testing.T) {
 				n += size
 			}
 			m := fitting(t, d, x, n)
-			if got := turned(t, other(x), turned(t, x, m)); !bytes.Equal(got, m) {
+			if got := turned(t, x.Other(), turned(t, x, m)); !bytes.Equal(got, m) {
 				t.Fatalf("%+v: % X is not % X", x, got, m)
 			}
 		}
@@ -439,7 +424,7 @@ func TestP1502ThereAndBackOfPaddings(t *testing.T) {
 		for _, v := range []byte{0, 1, 2, 8, 16, 128, 255} {
 			for n := range 3*cipher.Size(x.Tag) + 1 {
 				for _, m := range [][]byte{bytes.Repeat([]byte{v}, n), append(make([]byte, n), v), append([]byte{v}, make([]byte, n)...)} {
-					if got := turned(t, other(x), turned(t, x, m)); !bytes.Equal(got, m) {
+					if got := turned(t, x.Other(), turned(t, x, m)); !bytes.Equal(got, m) {
 						t.Fatalf("%+v: % X is not % X", x, got, m)
 					}
 				}
@@ -454,7 +439,7 @@ func fitting(t *testing.T, d *dice.Dice, x supply.Asked, n int) []byte {
 	t.Helper()
 	switch {
 	case x.Pad != api.None && x.Back:
-		return turned(t, other(x), d.Bytes(n))
+		return turned(t, x.Other(), d.Bytes(n))
 	case x.Pad == api.None && x.Mode <= api.Cbc:
 		return filled(d.Bytes(n), cipher.Size(x.Tag))
 	}
@@ -475,7 +460,7 @@ func TestP2P3ShotLeavesAll(t *testing.T) {
 			hadKey, hadIV, had := bytes.Clone(key), bytes.Clone(iv), bytes.Clone(room)
 			spare := supply.Asked{Config: x.Config, Key: key[:len(x.Key)], IV: iv[:len(x.IV)]}
 			first := turned(t, spare, room[:len(m)])
-			for _, c := range []api.Config{x.Config, other(x).Config} {
+			for _, c := range []api.Config{x.Config, x.Other().Config} {
 				shot.Shot(c, spare.Key, spare.IV, room[:size])
 				shot.Shot(c, spare.Key, spare.IV, room[size-1:])
 			}

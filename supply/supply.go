@@ -116,6 +116,36 @@ func (x Asked) MayBe(n int) bool {
 	return !x.Back || n > 0 && n%size == 0
 }
 
+// Other is x the other way about.
+func (x Asked) Other() Asked {
+	x.Back = !x.Back
+	return x
+}
+
+// OfOneList is x by a key and an iv that are taken from one list, and that list.
+func (x Asked) OfOneList(d *dice.Dice) (Asked, []byte) {
+	b := d.Bytes(48)
+	x.Key, x.IV = b[:len(x.Key)], b[:len(x.IV)]
+	return x, b
+}
+
+// Fault is what may be wrong with what is asked for, and how that is refused.
+type Fault struct {
+	Spoil func(x *Asked)
+	E     api.Errno
+}
+
+// Faults are one for each of its parts, in the order in which they are refused.
+func Faults() []Fault {
+	return []Fault{
+		{func(x *Asked) { x.Tag += api.Rc5 }, api.BadTag},
+		{func(x *Asked) { x.Key = append(slices.Clone(x.Key), 0) }, api.BadKey},
+		{func(x *Asked) { x.Mode += api.Cs3 }, api.BadMode},
+		{func(x *Asked) { x.Pad -= api.None }, api.BadMode},
+		{func(x *Asked) { x.IV = append(slices.Clone(x.IV), 0) }, api.BadIV},
+	}
+}
+
 // Old is what others have told, from memory: what becomes of a text.
 type Old struct {
 	Asked
@@ -159,6 +189,16 @@ func EachAsked(d *dice.Dice, tags []int, call func(x Asked)) {
 	}
 }
 
+// SomeAsked is all of EachAsked, shuffled, so that each comes behind any other.
+func SomeAsked(d *dice.Dice, tags []int) []Asked {
+	var all, out []Asked
+	EachAsked(d, tags, func(x Asked) { all = append(all, x) })
+	for _, i := range d.Shuffled(len(all)) {
+		out = append(out, all[i-1])
+	}
+	return out
+}
+
 // leastPad is the first of the paddings that go with a mode; None is the last one.
 func leastPad(mode int) int {
 	if mode <= api.Cbc {
@@ -188,4 +228,14 @@ func anyNumber(d *dice.Dice, most int) int {
 		return int(d.Next())
 	}
 	return d.Below(most+4) - 1
+}
+
+// Cut is m in pieces of up to most bytes, none too.
+func Cut(d *dice.Dice, m []byte, most int) [][]byte {
+	var out [][]byte
+	for len(m) > 0 {
+		n := min(d.Below(most+1), len(m))
+		out, m = append(out, m[:n]), m[n:]
+	}
+	return out
 }
